@@ -1,11 +1,14 @@
 package cable
 
-import "moonpool/api"
+import (
+	"moonpool/api"
+	"moonpool/rules"
+)
 
 // CheckLine is in P1.1.
 func CheckLine(l api.CableLine) (int, api.Errno) {
-	if !within(l.Load.X, api.MaxCableLoad) || !within(l.Load.Z, api.MaxCableLoad) {
-		return 0, api.ErrRange
+	if e := rules.SizeError(api.MaxCableLoad, l.Load.X, l.Load.Z); e != api.OK {
+		return 0, e
 	}
 	if len(l.Links) == 0 {
 		return 0, api.ErrShape
@@ -13,12 +16,12 @@ func CheckLine(l api.CableLine) (int, api.Errno) {
 	if len(l.Links) > api.MaxCableLinks {
 		return 0, api.ErrLarge
 	}
-	return firstBad(l.Links, func(k api.CableLink) api.Errno {
-		if k.Height < 1 || k.Height > api.MaxCableHeight || !within(k.Weight, api.MaxCableWeight) ||
-			k.Drag < 0 || k.Drag > api.MaxCableDrag {
-			return api.ErrRange
-		}
-		return api.OK
+	return rules.FirstBad(l.Links, func(k api.CableLink) api.Errno {
+		return rules.FirstError(
+			rules.LimitError(k.Height, 1, api.MaxCableHeight),
+			rules.SizeError(api.MaxCableWeight, k.Weight),
+			rules.LimitError(k.Drag, 0, api.MaxCableDrag),
+		)
 	})
 }
 
@@ -30,34 +33,7 @@ func CheckBox(l api.CableLine, b []api.Range) (int, api.Errno) {
 	if len(b) != len(l.Links) {
 		return 0, api.ErrShape
 	}
-	return firstBad(b, func(r api.Range) api.Errno { return rangeError(r, api.MaxCableCurrent) })
-}
-
-// firstBad finds the first item that has an error: its index, and the error.
-func firstBad[T any](items []T, errorOf func(T) api.Errno) (int, api.Errno) {
-	for i, item := range items {
-		if e := errorOf(item); e != api.OK {
-			return i, e
-		}
-	}
-	return 0, api.OK
-}
-
-// within is whether a number is at most most in size. The least int has no size that is an int, so that none is taken.
-func within(n, most int) bool { return -most <= n && n <= most }
-
-func rangeError(r api.Range, most int) api.Errno {
-	if !within(r.Lo, most) || !within(r.Hi, most) {
-		return api.ErrRange
-	}
-	return orderError(r)
-}
-
-func orderError(r api.Range) api.Errno {
-	if r.Lo > r.Hi {
-		return api.ErrOrder
-	}
-	return api.OK
+	return rules.FirstBad(b, func(r api.Range) api.Errno { return rules.RangeError(r, api.MaxCableCurrent) })
 }
 
 func lineError(l api.CableLine) api.Errno {
@@ -73,13 +49,7 @@ func currentsError(l api.CableLine, currents []int) api.Errno {
 	if len(currents) != len(l.Links) {
 		return api.ErrShape
 	}
-	_, e := firstBad(currents, func(c int) api.Errno {
-		if !within(c, api.MaxCableCurrent) {
-			return api.ErrRange
-		}
-		return api.OK
-	})
-	return e
+	return rules.SizeError(api.MaxCableCurrent, currents...)
 }
 
 // boxError is the error of the line and the box.

@@ -6,18 +6,6 @@ import (
 	"moonpool/api"
 )
 
-// lowest is a fraction in lowest terms, for a denominator above 0.
-func lowest(num, den int) api.Frac {
-	a, b := num, den
-	for b != 0 {
-		a, b = b, a%b
-	}
-	if a < 0 {
-		a = -a
-	}
-	return api.Frac{Num: num / a, Den: den / a}
-}
-
 // greater compares fractions that are not negative, whose products with each other exceed an int.
 func greater(a, b api.Frac) bool {
 	high, low := bits.Mul64(uint64(a.Num), uint64(b.Den))

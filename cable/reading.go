@@ -1,6 +1,9 @@
 package cable
 
-import "moonpool/api"
+import (
+	"moonpool/api"
+	"moonpool/rules"
+)
 
 // ContradictionOf is in P1.6. Two readings at most are a contradiction: one bounds X in a link from below, another one (or the load) from above.
 func ContradictionOf(l api.CableLine, b []api.Range, r []api.CableReading) ([]int, api.Errno) {
@@ -50,11 +53,11 @@ func readingsError(l api.CableLine, b []api.Range, r []api.CableReading) api.Err
 	if len(r) > api.MaxCableReadings {
 		return api.ErrLarge
 	}
-	_, e := firstBad(r, func(x api.CableReading) api.Errno {
+	_, e := rules.FirstBad(r, func(x api.CableReading) api.Errno {
 		if x.Link < 0 || x.Link >= len(l.Links) {
 			return api.ErrMissing
 		}
-		return rangeError(x.X, api.MaxCablePull)
+		return rules.RangeError(x.X, api.MaxCablePull)
 	})
 	return e
 }
@@ -65,7 +68,7 @@ func setError(r []api.CableReading, set []int) api.Errno {
 		return api.ErrShape
 	}
 	before := -1
-	_, e := firstBad(set, func(i int) api.Errno {
+	_, e := rules.FirstBad(set, func(i int) api.Errno {
 		if i < 0 || i >= len(r) {
 			return api.ErrMissing
 		}

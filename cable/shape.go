@@ -1,6 +1,9 @@
 package cable
 
-import "moonpool/api"
+import (
+	"moonpool/api"
+	"moonpool/rules"
+)
 
 // OffsetsOf is in P1.3.
 func OffsetsOf(l api.CableLine, currents []int) ([]api.Frac, api.Errno) {
@@ -9,7 +12,7 @@ func OffsetsOf(l api.CableLine, currents []int) ([]api.Frac, api.Errno) {
 	}
 	var offsets []api.Frac
 	for p := range (line{l}).pulls(still(currents)) {
-		offsets = append(offsets, lowest(p.Height*p.X.Lo, p.Z))
+		offsets = append(offsets, rules.Lowest(p.Height*p.X.Lo, p.Z))
 	}
 	return offsets, api.OK
 }

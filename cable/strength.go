@@ -1,6 +1,9 @@
 package cable
 
-import "moonpool/api"
+import (
+	"moonpool/api"
+	"moonpool/rules"
+)
 
 // StrongestIn is in P1.4.
 func StrongestIn(l api.CableLine, currents []int) (int, int, api.Errno) {
@@ -39,12 +42,7 @@ func strengthsError(l api.CableLine, strengths []int) api.Errno {
 	if len(strengths) != len(l.Links) {
 		return api.ErrShape
 	}
-	_, e := firstBad(strengths, func(s int) api.Errno {
-		if s < 0 || s > api.MaxCableStrength {
-			return api.ErrRange
-		}
-		return api.OK
-	})
+	_, e := rules.FirstBad(strengths, func(s int) api.Errno { return rules.LimitError(s, 0, api.MaxCableStrength) })
 	return e
 }
 
@@ -89,5 +87,5 @@ func square(t api.CableForce) int { return t.X*t.X + t.Z*t.Z }
 // Parts of tensions are at most 20000 in size, so that both parts of the bend are below 2^60.
 func bend(lower, upper api.CableForce) api.Frac {
 	across := lower.X*upper.Z - upper.X*lower.Z
-	return lowest(across*across, square(lower)*square(upper))
+	return rules.Lowest(across*across, square(lower)*square(upper))
 }

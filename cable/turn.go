@@ -4,6 +4,7 @@ import (
 	"iter"
 
 	"moonpool/api"
+	"moonpool/rules"
 )
 
 // WindingOf is in P1.7.
@@ -25,7 +26,7 @@ func WoundAround(path, posts [][2]int) ([]int, api.Errno) {
 	if len(posts) > api.MaxCablePosts {
 		return nil, api.ErrLarge
 	}
-	_, e := firstBad(posts, func(post [2]int) api.Errno { return postError(path, post) })
+	_, e := rules.FirstBad(posts, func(post [2]int) api.Errno { return postError(path, post) })
 	if e != api.OK {
 		return nil, e
 	}
@@ -45,16 +46,11 @@ func pathError(path [][2]int) api.Errno {
 	if len(path) > api.MaxCablePath {
 		return api.ErrLarge
 	}
-	_, e := firstBad(path, placeError)
+	_, e := rules.FirstBad(path, placeError)
 	return e
 }
 
-func placeError(p [2]int) api.Errno {
-	if !within(p[0], api.MaxCablePlace) || !within(p[1], api.MaxCablePlace) {
-		return api.ErrRange
-	}
-	return api.OK
-}
+func placeError(p [2]int) api.Errno { return rules.SizeError(api.MaxCablePlace, p[:]...) }
 
 // postError is the error of a post, for a valid path.
 func postError(path [][2]int, post [2]int) api.Errno {

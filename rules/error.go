@@ -1,0 +1,58 @@
+// Package rules has what the document says for all chapters: which error is the first one, sizes and limits of numbers, numbers in strings, and lowest terms.
+package rules
+
+import "moonpool/api"
+
+// FirstError is the first of errors that is not OK, or OK.
+func FirstError(errors ...api.Errno) api.Errno {
+	for _, e := range errors {
+		if e != api.OK {
+			return e
+		}
+	}
+	return api.OK
+}
+
+// FirstBad finds the first item that has an error: its index, and the error.
+func FirstBad[T any](items []T, errorOf func(T) api.Errno) (int, api.Errno) {
+	for i, item := range items {
+		if e := errorOf(item); e != api.OK {
+			return i, e
+		}
+	}
+	return 0, api.OK
+}
+
+// Within is whether a number is at most most in size. The least int has no size that is an int, so that none is taken.
+func Within(n, most int) bool { return -most <= n && n <= most }
+
+// SizeError is ErrRange if any of the numbers is greater in size than most.
+func SizeError(most int, numbers ...int) api.Errno {
+	for _, n := range numbers {
+		if !Within(n, most) {
+			return api.ErrRange
+		}
+	}
+	return api.OK
+}
+
+// LimitError is ErrRange if a number is not from least to most.
+func LimitError(n, least, most int) api.Errno {
+	if n < least || n > most {
+		return api.ErrRange
+	}
+	return api.OK
+}
+
+// OrderError is ErrOrder if the ends of a range are in the wrong order.
+func OrderError(r api.Range) api.Errno {
+	if r.Lo > r.Hi {
+		return api.ErrOrder
+	}
+	return api.OK
+}
+
+// RangeError is the error of a range whose ends are at most most in size.
+func RangeError(r api.Range, most int) api.Errno {
+	return FirstError(SizeError(most, r.Lo, r.Hi), OrderError(r))
+}

@@ -1,0 +1,156 @@
+package rules_test
+
+import (
+	"math"
+	"slices"
+	"strings"
+	"testing"
+
+	"moonpool/api"
+	"moonpool/rules"
+)
+
+func TestFirstError(t *testing.T) {
+	for _, c := range []struct {
+		errors []api.Errno
+		want   api.Errno
+	}{
+		{nil, api.OK},
+		{[]api.Errno{api.OK, api.OK}, api.OK},
+		{[]api.Errno{api.OK, api.ErrOrder, api.ErrRange}, api.ErrOrder},
+		{[]api.Errno{api.ErrShape}, api.ErrShape},
+	} {
+		if e := rules.FirstError(c.errors...); e != c.want {
+			t.Errorf("FirstError of %v: %d, want %d", c.errors, e, c.want)
+		}
+	}
+}
+
+func TestFirstBad(t *testing.T) {
+	even := func(n int) api.Errno {
+		if n%2 != 0 {
+			return api.ErrForm
+		}
+		return api.OK
+	}
+	for _, c := range []struct {
+		items []int
+		index int
+		err   api.Errno
+	}{
+		{nil, 0, api.OK},
+		{[]int{2, 4}, 0, api.OK},
+		{[]int{1, 3}, 0, api.ErrForm},
+		{[]int{2, 4, 5, 7}, 2, api.ErrForm},
+	} {
+		if i, e := rules.FirstBad(c.items, even); i != c.index || e != c.err {
+			t.Errorf("FirstBad of %v: %d, %d, want %d, %d", c.items, i, e, c.index, c.err)
+		}
+	}
+}
+
+func TestSizesAndLimits(t *testing.T) {
+	for _, c := range []struct {
+		name      string
+		got, want api.Errno
+	}{
+		{"no sizes", rules.SizeError(3), api.OK},
+		{"sizes", rules.SizeError(3, -3, 0, 3), api.OK},
+		{"too great", rules.SizeError(3, 0, 4), api.ErrRange},
+		{"too small", rules.SizeError(3, -4), api.ErrRange},
+		{"the least int", rules.SizeError(3, math.MinInt), api.ErrRange},
+		{"the least limit", rules.LimitError(1, 1, 3), api.OK},
+		{"the greatest limit", rules.LimitError(3, 1, 3), api.OK},
+		{"below", rules.LimitError(0, 1, 3), api.ErrRange},
+		{"above", rules.LimitError(4, 1, 3), api.ErrRange},
+		{"a range", rules.RangeError(api.Range{Lo: -3, Hi: 3}, 3), api.OK},
+		{"a range of one number", rules.RangeError(api.Range{Lo: 2, Hi: 2}, 3), api.OK},
+		{"Lo too small", rules.RangeError(api.Range{Lo: -4, Hi: 3}, 3), api.ErrRange},
+		{"Hi too great", rules.RangeError(api.Range{Lo: -3, Hi: 4}, 3), api.ErrRange},
+		{"wrong order", rules.RangeError(api.Range{Lo: 1, Hi: 0}, 3), api.ErrOrder},
+		{"size before order", rules.RangeError(api.Range{Lo: 4, Hi: 0}, 3), api.ErrRange},
+		{"order alone", rules.OrderError(api.Range{Lo: 9, Hi: 8}), api.ErrOrder},
+		{"order kept", rules.OrderError(api.Range{Lo: 9, Hi: 9}), api.OK},
+	} {
+		if c.got != c.want {
+			t.Errorf("%s: %d, want %d", c.name, c.got, c.want)
+		}
+	}
+}
+
+func TestDivisorAndLowest(t *testing.T) {
+	for _, c := range []struct {
+		numbers []int
+		want    int
+	}{
+		{nil, 0},
+		{[]int{0, 0}, 0},
+		{[]int{-7}, 7},
+		{[]int{12, 18}, 6},
+		{[]int{-12, 18, 4}, 2},
+		{[]int{0, 0, -5}, 5},
+		{[]int{6, 10, 15}, 1},
+	} {
+		if by := rules.Divisor(c.numbers...); by != c.want {
+			t.Errorf("Divisor of %v: %d, want %d", c.numbers, by, c.want)
+		}
+	}
+	for _, c := range []struct {
+		num, den int
+		want     api.Frac
+	}{
+		{0, 9, api.Frac{Num: 0, Den: 1}},
+		{6, 4, api.Frac{Num: 3, Den: 2}},
+		{-6, 4, api.Frac{Num: -3, Den: 2}},
+		{-4, 2, api.Frac{Num: -2, Den: 1}},
+		{5, 7, api.Frac{Num: 5, Den: 7}},
+	} {
+		if f := rules.Lowest(c.num, c.den); f != c.want {
+			t.Errorf("Lowest of %d, %d: %v, want %v", c.num, c.den, f, c.want)
+		}
+	}
+}
+
+func TestWritten(t *testing.T) {
+	for _, c := range []struct {
+		numbers []int
+		want    string
+	}{
+		{nil, ""},
+		{[]int{0}, "0"},
+		{[]int{-1, 20, -300}, "-1 20 -300"},
+		{[]int{math.MinInt}, "-9223372036854775808"},
+	} {
+		if s := rules.Written(c.numbers...); s != c.want {
+			t.Errorf("Written of %v: %q, want %q", c.numbers, s, c.want)
+		}
+	}
+}
+
+func TestNumbersIn(t *testing.T) {
+	for _, c := range []struct {
+		text     string
+		unsigned []int
+		want     []int
+	}{
+		{"0", nil, []int{0}},
+		{"-9 10 -999", nil, []int{-9, 10, -999}},
+		{"-1 5 -2 0", []int{1, 3}, []int{-1, 5, -2, 0}},
+		{"7", []int{4}, []int{7}},
+	} {
+		if n, ok := rules.NumbersIn(c.text, 3, c.unsigned...); !ok || !slices.Equal(n, c.want) {
+			t.Errorf("NumbersIn of %q: %v, %v, want %v", c.text, n, ok, c.want)
+		}
+	}
+	for _, text := range strings.Split(malformed, ",") {
+		if n, ok := rules.NumbersIn(text, 3); ok || n != nil {
+			t.Errorf("NumbersIn of %q: %v, %v, want none", text, n, ok)
+		}
+	}
+	if n, ok := rules.NumbersIn("1 -2", 3, 1); ok || n != nil {
+		t.Errorf("NumbersIn of an unsigned one: %v, %v, want none", n, ok)
+	}
+}
+
+// malformed is texts that have a malformed number of at most 3 digits, separated by commas. The first one is empty.
+const malformed = `, ,1  2,1 , 1,-,--1,-0,00,01,-01,+1,1000,-1000,1a,a,1 x 2,1;2,٣,1/,1:,1	2`
