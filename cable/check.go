@@ -10,13 +10,7 @@ func CheckLine(l api.CableLine) (int, api.Errno) {
 	if e := rules.SizeError(api.MaxCableLoad, l.Load.X, l.Load.Z); e != api.OK {
 		return 0, e
 	}
-	if len(l.Links) == 0 {
-		return 0, api.ErrShape
-	}
-	if len(l.Links) > api.MaxCableLinks {
-		return 0, api.ErrLarge
-	}
-	return rules.FirstBad(l.Links, func(k api.CableLink) api.Errno {
+	return rules.CheckList(l.Links, 1, api.MaxCableLinks, func(k api.CableLink) api.Errno {
 		return rules.FirstError(
 			rules.LimitError(k.Height, 1, api.MaxCableHeight),
 			rules.SizeError(api.MaxCableWeight, k.Weight),

@@ -24,17 +24,7 @@ func FormatLine(l api.CableLine) string {
 
 // ParseLine is in P1.8.
 func ParseLine(s string) (api.CableLine, api.Errno) {
-	if len(s) > api.MaxString {
-		return api.CableLine{}, api.ErrLarge
-	}
-	l, ok := readLine(s)
-	if !ok {
-		return api.CableLine{}, api.ErrSyntax
-	}
-	if e := lineError(l); e != api.OK {
-		return api.CableLine{}, e
-	}
-	return l, api.OK
+	return rules.Parsed(s, readLine, lineError)
 }
 
 // readLine reads any line, valid or not.

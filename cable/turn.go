@@ -40,13 +40,7 @@ func WoundAround(path, posts [][2]int) ([]int, api.Errno) {
 }
 
 func pathError(path [][2]int) api.Errno {
-	if len(path) == 0 {
-		return api.ErrShape
-	}
-	if len(path) > api.MaxCablePath {
-		return api.ErrLarge
-	}
-	_, e := rules.FirstBad(path, placeError)
+	_, e := rules.CheckList(path, 1, api.MaxCablePath, placeError)
 	return e
 }
 

@@ -1,4 +1,4 @@
-// Package rules has what the document says for all chapters: which error is the first one, sizes and limits of numbers, numbers in strings, and lowest terms.
+// Package rules has what the document says for all chapters: which error is the first one, lists, sizes and limits of numbers, strings that are parsed and numbers in them, and lowest terms.
 package rules
 
 import "moonpool/api"
@@ -21,6 +21,17 @@ func FirstBad[T any](items []T, errorOf func(T) api.Errno) (int, api.Errno) {
 		}
 	}
 	return 0, api.OK
+}
+
+// CheckList checks how many items a list has, from least to most, and then each item: the index of the first one that has an error (0 if no item is concerned), and the error.
+func CheckList[T any](items []T, least, most int, errorOf func(T) api.Errno) (int, api.Errno) {
+	if len(items) < least {
+		return 0, api.ErrShape
+	}
+	if len(items) > most {
+		return 0, api.ErrLarge
+	}
+	return FirstBad(items, errorOf)
 }
 
 // Within is whether a number is at most most in size. The least int has no size that is an int, so that none is taken.

@@ -26,13 +26,15 @@ func TestFirstError(t *testing.T) {
 	}
 }
 
-func TestFirstBad(t *testing.T) {
-	even := func(n int) api.Errno {
-		if n%2 != 0 {
-			return api.ErrForm
-		}
-		return api.OK
+// evenError is ErrForm if a number is not even.
+func evenError(n int) api.Errno {
+	if n%2 != 0 {
+		return api.ErrForm
 	}
+	return api.OK
+}
+
+func TestFirstBad(t *testing.T) {
 	for _, c := range []struct {
 		items []int
 		index int
@@ -43,8 +45,59 @@ func TestFirstBad(t *testing.T) {
 		{[]int{1, 3}, 0, api.ErrForm},
 		{[]int{2, 4, 5, 7}, 2, api.ErrForm},
 	} {
-		if i, e := rules.FirstBad(c.items, even); i != c.index || e != c.err {
+		if i, e := rules.FirstBad(c.items, evenError); i != c.index || e != c.err {
 			t.Errorf("FirstBad of %v: %d, %d, want %d, %d", c.items, i, e, c.index, c.err)
+		}
+	}
+}
+
+func TestCheckList(t *testing.T) {
+	for _, c := range []struct {
+		items       []int
+		least, most int
+		index       int
+		err         api.Errno
+	}{
+		{nil, 0, 3, 0, api.OK},
+		{nil, 1, 3, 0, api.ErrShape},
+		{[]int{2}, 2, 3, 0, api.ErrShape},
+		{[]int{2, 4}, 2, 3, 0, api.OK},
+		{[]int{2, 4, 6}, 2, 3, 0, api.OK},
+		{[]int{2, 4, 6, 8}, 2, 3, 0, api.ErrLarge},
+		{[]int{1}, 2, 3, 0, api.ErrShape},
+		{[]int{2, 4, 6, 7}, 2, 3, 0, api.ErrLarge},
+		{[]int{2, 3, 5}, 2, 3, 1, api.ErrForm},
+	} {
+		if i, e := rules.CheckList(c.items, c.least, c.most, evenError); i != c.index || e != c.err {
+			t.Errorf("CheckList of %v: %d, %d, want %d, %d", c.items, i, e, c.index, c.err)
+		}
+	}
+}
+
+func TestParsed(t *testing.T) {
+	read := func(s string) (int, bool) { return len(s), !strings.Contains(s, "x") }
+	errorOf := func(n int) api.Errno {
+		if n == 2 {
+			return api.ErrForm
+		}
+		return api.OK
+	}
+	for _, c := range []struct {
+		text   string
+		number int
+		err    api.Errno
+	}{
+		{"", 0, api.OK},
+		{"aaa", 3, api.OK},
+		{"aa", 0, api.ErrForm},
+		{"xx", 0, api.ErrSyntax},
+		{"x", 0, api.ErrSyntax},
+		{strings.Repeat("a", 60000), 60000, api.OK},
+		{strings.Repeat("a", 60001), 0, api.ErrLarge},
+		{strings.Repeat("x", 60001), 0, api.ErrLarge},
+	} {
+		if n, e := rules.Parsed(c.text, read, errorOf); n != c.number || e != c.err {
+			t.Errorf("Parsed of %q: %d, %d, want %d, %d", c.text[:min(len(c.text), 40)], n, e, c.number, c.err)
 		}
 	}
 }

@@ -4,7 +4,25 @@ import (
 	"slices"
 	"strconv"
 	"strings"
+
+	"moonpool/api"
 )
+
+// Parsed is what read makes of a string, with the errors of every string that is parsed, and then those of what was read.
+func Parsed[T any](s string, read func(s string) (T, bool), errorOf func(T) api.Errno) (T, api.Errno) {
+	var none T
+	if len(s) > api.MaxString {
+		return none, api.ErrLarge
+	}
+	x, ok := read(s)
+	if !ok {
+		return none, api.ErrSyntax
+	}
+	if e := errorOf(x); e != api.OK {
+		return none, e
+	}
+	return x, api.OK
+}
 
 // Written is numbers, separated by single blanks.
 func Written(numbers ...int) string {

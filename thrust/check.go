@@ -7,13 +7,7 @@ import (
 
 // CheckThrusters is in P3.1.
 func CheckThrusters(l []api.Thruster) (int, api.Errno) {
-	if len(l) == 0 {
-		return 0, api.ErrShape
-	}
-	if len(l) > api.MaxThrusters {
-		return 0, api.ErrLarge
-	}
-	return rules.FirstBad(l, thrusterError)
+	return rules.CheckList(l, 1, api.MaxThrusters, thrusterError)
 }
 
 // ColumnOf is in P3.1.
@@ -92,13 +86,7 @@ func wantedError(wanted [3]int) api.Errno { return rules.SizeError(api.MaxThrust
 
 // wantsError is the error of wanted forces.
 func wantsError(wanted [][3]int) api.Errno {
-	if len(wanted) == 0 {
-		return api.ErrShape
-	}
-	if len(wanted) > api.MaxThrustWants {
-		return api.ErrLarge
-	}
-	_, e := rules.FirstBad(wanted, wantedError)
+	_, e := rules.CheckList(wanted, 1, api.MaxThrustWants, wantedError)
 	return e
 }
 

@@ -33,17 +33,7 @@ func FormatThrusters(l []api.Thruster) string {
 
 // ParseThrusters is in P3.7.
 func ParseThrusters(s string) ([]api.Thruster, api.Errno) {
-	if len(s) > api.MaxString {
-		return nil, api.ErrLarge
-	}
-	l, ok := readThrusters(s)
-	if !ok {
-		return nil, api.ErrSyntax
-	}
-	if e := thrustersError(l); e != api.OK {
-		return nil, e
-	}
-	return l, api.OK
+	return rules.Parsed(s, readThrusters, thrustersError)
 }
 
 // readThrusters reads any thrusters, valid or not.
@@ -69,18 +59,14 @@ func FormatSetting(setting []int) string { return rules.Written(setting...) }
 
 // ParseSetting is in P3.7.
 func ParseSetting(s string) ([]int, api.Errno) {
-	if len(s) > api.MaxString {
-		return nil, api.ErrLarge
-	}
-	setting, ok := rules.NumbersIn(s, digits)
-	if !ok {
-		return nil, api.ErrSyntax
-	}
-	if len(setting) > api.MaxThrusters {
-		return nil, api.ErrLarge
-	}
-	if _, e := numbersError(setting); e != api.OK {
-		return nil, e
-	}
-	return setting, api.OK
+	return rules.Parsed(s, readSetting, func(setting []int) api.Errno {
+		if len(setting) > api.MaxThrusters {
+			return api.ErrLarge
+		}
+		_, e := numbersError(setting)
+		return e
+	})
 }
+
+// readSetting reads any whole setting, valid or not.
+func readSetting(s string) ([]int, bool) { return rules.NumbersIn(s, digits) }

@@ -18,13 +18,9 @@ type equation struct {
 
 // CheckSamples is in P2.1.
 func CheckSamples(l []int) (int, api.Errno) {
-	if len(l) < minSamples {
-		return 0, api.ErrShape
-	}
-	if len(l) > api.MaxWinchSamples {
-		return 0, api.ErrLarge
-	}
-	return rules.FirstBad(l, func(height int) api.Errno { return rules.SizeError(api.MaxWinchSample, height) })
+	return rules.CheckList(l, minSamples, api.MaxWinchSamples, func(height int) api.Errno {
+		return rules.SizeError(api.MaxWinchSample, height)
+	})
 }
 
 // PredictorOf is in P2.1.

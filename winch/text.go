@@ -22,17 +22,7 @@ func FormatSamples(l []int) string { return rules.Written(l...) }
 
 // ParseSamples is in P2.7.
 func ParseSamples(s string) ([]int, api.Errno) {
-	if len(s) > api.MaxString {
-		return nil, api.ErrLarge
-	}
-	l, ok := rules.NumbersIn(s, digits)
-	if !ok {
-		return nil, api.ErrSyntax
-	}
-	if e := samplesError(l); e != api.OK {
-		return nil, e
-	}
-	return l, api.OK
+	return rules.Parsed(s, func(s string) ([]int, bool) { return rules.NumbersIn(s, digits) }, samplesError)
 }
 
 // FormatLoop is in P2.7.
@@ -42,21 +32,19 @@ func FormatLoop(l api.WinchLoop) string {
 
 // ParseLoop is in P2.7.
 func ParseLoop(s string) (api.WinchLoop, api.Errno) {
-	if len(s) > api.MaxString {
-		return api.WinchLoop{}, api.ErrLarge
-	}
+	return rules.Parsed(s, readLoop, loopError)
+}
+
+// readLoop reads any loop, valid or not.
+func readLoop(s string) (api.WinchLoop, bool) {
 	n, ok := rules.NumbersIn(s, digits, turnWord, slewWord)
 	if !ok || len(n) <= tableWord {
-		return api.WinchLoop{}, api.ErrSyntax
+		return api.WinchLoop{}, false
 	}
-	l := api.WinchLoop{
+	return api.WinchLoop{
 		Table: n[tableWord:],
 		Sea:   api.Range{Lo: n[seaLowWord], Hi: n[seaHighWord]},
 		Turn:  n[turnWord],
 		Slew:  n[slewWord],
-	}
-	if e := loopError(l); e != api.OK {
-		return api.WinchLoop{}, e
-	}
-	return l, api.OK
+	}, true
 }
