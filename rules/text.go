@@ -59,7 +59,7 @@ func numberIn(word string, digits int) (int, bool) {
 	}
 	n := 0
 	for i := range len(rest) {
-		if rest[i] < '0' || rest[i] > '9' {
+		if !isDigit(rest[i]) {
 			return 0, false
 		}
 		n = n*10 + int(rest[i]-'0')
@@ -69,3 +69,5 @@ func numberIn(word string, digits int) (int, bool) {
 	}
 	return n, true
 }
+
+func isDigit(c byte) bool { return '0' <= c && c <= '9' }

@@ -34,7 +34,7 @@ func BoundOf(l []api.SonarDevice) ([]int, int, api.Errno) {
 		return nil, 0, e
 	}
 	s, bound := devices(l).bound()
-	return s.members(), bound, api.OK
+	return s.Members(), bound, api.OK
 }
 
 func devicesError(l []api.SonarDevice) api.Errno {
@@ -84,10 +84,10 @@ func (d devices) isOpen(i int, t api.SonarTurns, tick int) bool {
 }
 
 // bound is the bound of devices, and its set.
-func (d devices) bound() (set, int) {
-	s, weight, _ := best(len(d), func(s set) (int, bool) {
+func (d devices) bound() (rules.Set, int) {
+	s, weight, _ := rules.Best(len(d), func(s rules.Set) (int, bool) {
 		sum := 0
-		for _, i := range s.members() {
+		for _, i := range s.Members() {
 			sum += d.window(i)
 		}
 		return -sum, d.allDisturb(s)
@@ -96,10 +96,10 @@ func (d devices) bound() (set, int) {
 }
 
 // allDisturb is whether the devices of a set disturb each other pairwise.
-func (d devices) allDisturb(s set) bool {
+func (d devices) allDisturb(s rules.Set) bool {
 	for i := range d {
 		for k := range i {
-			if s.has(i) && s.has(k) && !d.disturb(i, k) {
+			if s.Has(i) && s.Has(k) && !d.disturb(i, k) {
 				return false
 			}
 		}

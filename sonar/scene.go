@@ -49,12 +49,12 @@ func OddRays(s api.SonarScene) ([]int, api.Errno) {
 		return nil, e
 	}
 	seen := grid{s.Wide, s.High}.seen(s.Rays)
-	odd, _, _ := best(len(s.Rays), func(rays set) (int, bool) {
-		return 0, !slices.ContainsFunc(cells, func(cell int) bool {
+	odd, _ := rules.Minimum(len(s.Rays), func(rays rules.Set) bool {
+		return !slices.ContainsFunc(cells, func(cell int) bool {
 			return seen[cell].without(rays).state() == api.SonarBoth
 		})
 	})
-	return odd.members(), api.OK
+	return odd.Members(), api.OK
 }
 
 // Merged is in P4.4.

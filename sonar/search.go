@@ -38,14 +38,14 @@ func CoverOf(x api.SonarSearch) ([]int, int, api.Errno) {
 		return nil, 0, e
 	}
 	crossing := crossingOf(x)
-	cover, cost, ok := best(len(x.Views), func(views set) (int, bool) {
-		isMissed := func(by set) bool { return by&views == 0 }
+	cover, cost, ok := rules.Best(len(x.Views), func(views rules.Set) (int, bool) {
+		isMissed := func(by rules.Set) bool { return by&views == 0 }
 		return costOf(x, views), !slices.ContainsFunc(crossing, isMissed)
 	})
 	if !ok {
 		return nil, 0, api.ErrNone
 	}
-	return cover.members(), cost, api.OK
+	return cover.Members(), cost, api.OK
 }
 
 // CheckPrices is in P4.5.
@@ -62,7 +62,7 @@ func CheckPrices(x api.SonarSearch, prices []int) (int, api.Errno) {
 	sum, sums := 0, make([]int, len(x.Views))
 	for k, by := range crossingOf(x) {
 		sum += prices[k]
-		for _, i := range by.members() {
+		for _, i := range by.Members() {
 			sums[i] += prices[k]
 		}
 	}
@@ -83,13 +83,13 @@ func searchError(x api.SonarSearch) api.Errno {
 func costError(cost int) api.Errno { return rules.LimitError(cost, 0, api.MaxSonarCost) }
 
 // crossingOf is, for each wanted cell, the views that cross it.
-func crossingOf(x api.SonarSearch) []set {
+func crossingOf(x api.SonarSearch) []rules.Set {
 	rays := make([]api.SonarRay, len(x.Views))
 	for i, v := range x.Views {
 		rays[i] = v.Ray
 	}
 	seen := grid{x.Wide, x.High}.seen(rays)
-	crossing := make([]set, len(x.Wanted))
+	crossing := make([]rules.Set, len(x.Wanted))
 	for k, cell := range x.Wanted {
 		crossing[k] = seen[cell].crossing()
 	}
@@ -97,9 +97,9 @@ func crossingOf(x api.SonarSearch) []set {
 }
 
 // costOf is the sum of the costs of views.
-func costOf(x api.SonarSearch, views set) int {
+func costOf(x api.SonarSearch, views rules.Set) int {
 	cost := 0
-	for _, i := range views.members() {
+	for _, i := range views.Members() {
 		cost += x.Views[i].Cost
 	}
 	return cost

@@ -1,9 +1,12 @@
 package sonar
 
-import "moonpool/api"
+import (
+	"moonpool/api"
+	"moonpool/rules"
+)
 
 // sight is the rays that see through a cell, and those that hit it.
-type sight struct{ through, hits set }
+type sight struct{ through, hits rules.Set }
 
 // seen is the cells that rays cross, by their numbers: what is seen of each of them.
 func (g grid) seen(rays []api.SonarRay) map[int]sight {
@@ -12,9 +15,9 @@ func (g grid) seen(rays []api.SonarRay) map[int]sight {
 		for cell, state := range g.says(r) {
 			x := seen[cell]
 			if state == api.SonarFree {
-				x.through = x.through.with(i)
+				x.through = x.through.With(i)
 			} else {
-				x.hits = x.hits.with(i)
+				x.hits = x.hits.With(i)
 			}
 			seen[cell] = x
 		}
@@ -23,10 +26,10 @@ func (g grid) seen(rays []api.SonarRay) map[int]sight {
 }
 
 // without is what is seen of a cell without some rays.
-func (x sight) without(rays set) sight { return sight{x.through &^ rays, x.hits &^ rays} }
+func (x sight) without(rays rules.Set) sight { return sight{x.through &^ rays, x.hits &^ rays} }
 
 // crossing is all rays that cross a cell.
-func (x sight) crossing() set { return x.through | x.hits }
+func (x sight) crossing() rules.Set { return x.through | x.hits }
 
 func (x sight) state() int {
 	switch {

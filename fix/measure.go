@@ -1,0 +1,41 @@
+package fix
+
+import (
+	"moonpool/api"
+	"moonpool/rules"
+)
+
+// DepthIn is in P5.2.
+func DepthIn(pressure, density api.Range) (api.Range, api.Errno) {
+	e := rules.FirstError(
+		rules.LimitError(pressure.Lo, 0, api.MaxFixPressure),
+		rules.LimitError(pressure.Hi, 0, api.MaxFixPressure),
+		rules.LimitError(density.Lo, 1, api.MaxFixDensity),
+		rules.LimitError(density.Hi, 1, api.MaxFixDensity),
+		rules.OrderError(pressure),
+		rules.OrderError(density),
+	)
+	if e != api.OK {
+		return api.Range{}, e
+	}
+	return api.Range{
+		Lo: pressure.Lo * api.FixScale / density.Hi,
+		Hi: (pressure.Hi*api.FixScale + density.Lo - 1) / density.Lo,
+	}, api.OK
+}
+
+// SquaresIn is in P5.2.
+func SquaresIn(n api.FixNet, beacon int, b api.FixBox) (api.Range, api.Errno) {
+	if e := rules.FirstError(netError(n), indexError(beacon, len(n.Beacons)), CheckBox(n, b)); e != api.OK {
+		return api.Range{}, e
+	}
+	return placeOf(n.Beacons[beacon].Place).squaresTo(boxOf(b)), api.OK
+}
+
+// indexError is ErrMissing if there is no item with this index.
+func indexError(index, count int) api.Errno {
+	if index < 0 || index >= count {
+		return api.ErrMissing
+	}
+	return api.OK
+}

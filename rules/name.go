@@ -1,0 +1,37 @@
+package rules
+
+import (
+	"slices"
+
+	"moonpool/api"
+)
+
+// NameErrors makes the function that finds the errors of names one after another: ErrName if one is no name, ErrExists if it was one before.
+func NameErrors() func(name string) api.Errno {
+	var earlier []string
+	return func(name string) api.Errno {
+		if !isName(name) {
+			return api.ErrName
+		}
+		if slices.Contains(earlier, name) {
+			return api.ErrExists
+		}
+		earlier = append(earlier, name)
+		return api.OK
+	}
+}
+
+// isName is whether a string is a name.
+func isName(s string) bool {
+	if s == "" || len(s) > api.MaxName || !isLetter(s[0]) {
+		return false
+	}
+	for i := range len(s) {
+		if c := s[i]; !isLetter(c) && !isDigit(c) && c != '-' {
+			return false
+		}
+	}
+	return true
+}
+
+func isLetter(c byte) bool { return 'a' <= c && c <= 'z' || 'A' <= c && c <= 'Z' }
