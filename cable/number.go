@@ -13,18 +13,6 @@ func greater(a, b api.Frac) bool {
 	return high > otherHigh || high == otherHigh && low > otherLow
 }
 
-// floor is a quotient rounded down, for a divisor above 0.
-func floor(n, by int) int {
-	q := n / by
-	if n%by < 0 {
-		q--
-	}
-	return q
-}
-
-// ceiling is a quotient rounded up, for a divisor above 0.
-func ceiling(n, by int) int { return -floor(-n, by) }
-
 // root is the root of a number from 0 to 2^60, rounded down.
 func root(n int) int {
 	r := 0

@@ -75,7 +75,7 @@ func SquaresIn(l api.CableLine, b []api.Range) ([]api.Range, api.Errno) {
 
 // offsets goes from the smallest offset, rounded down, to the greatest one, rounded up, of a link that is not slack.
 func (p pull) offsets() api.Range {
-	return api.Range{Lo: floor(p.Height*p.X.Lo, p.Z), Hi: ceiling(p.Height*p.X.Hi, p.Z)}
+	return api.Range{Lo: rules.Floor(p.Height*p.X.Lo, p.Z), Hi: rules.Ceiling(p.Height*p.X.Hi, p.Z)}
 }
 
 // lengths goes from the smallest length, rounded down, to the greatest one, rounded up, of a link that is not slack.
@@ -83,7 +83,7 @@ func (p pull) offsets() api.Range {
 func (p pull) lengths() api.Range {
 	squares := p.squares()
 	area := p.Height * p.Height
-	return api.Range{Lo: floor(root(area*squares.Lo), p.Z), Hi: ceiling(rootUp(area*squares.Hi), p.Z)}
+	return api.Range{Lo: rules.Floor(root(area*squares.Lo), p.Z), Hi: rules.Ceiling(rootUp(area*squares.Hi), p.Z)}
 }
 
 // squares is the range of the square of the tension.

@@ -10,7 +10,7 @@ func CheckNet(n api.FixNet) (int, api.Errno) {
 	if e := worldError(n.World); e != api.OK {
 		return 0, e
 	}
-	nameError := rules.NameErrors()
+	nameError := rules.NameErrors(api.ErrExists)
 	return rules.CheckList(n.Beacons, 0, api.MaxFixBeacons, func(b api.FixBeacon) api.Errno {
 		return rules.FirstError(nameError(b.Name), rules.SizeError(api.MaxFixPlace, b.Place.X, b.Place.Y, b.Place.Z))
 	})

@@ -1,4 +1,4 @@
-// Package rules has what the document says for all chapters: which error is the first one, lists, sizes and limits of numbers, strings that are parsed and numbers in them, and lowest terms.
+// Package rules has what the document says for all chapters: which error is the first one, lists, sizes and limits of numbers, strings that are parsed and numbers in them, minimum sets, lowest terms, and quotients rounded down and up.
 package rules
 
 import "moonpool/api"

@@ -6,15 +6,15 @@ import (
 	"moonpool/api"
 )
 
-// NameErrors makes the function that finds the errors of names one after another: ErrName if one is no name, ErrExists if it was one before.
-func NameErrors() func(name string) api.Errno {
+// NameErrors makes the function that finds the errors of names one after another: ErrName if one is no name, and the error for those that were one before.
+func NameErrors(twice api.Errno) func(name string) api.Errno {
 	var earlier []string
 	return func(name string) api.Errno {
 		if !isName(name) {
 			return api.ErrName
 		}
 		if slices.Contains(earlier, name) {
-			return api.ErrExists
+			return twice
 		}
 		earlier = append(earlier, name)
 		return api.OK

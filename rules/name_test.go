@@ -38,14 +38,14 @@ func TestNameErrors(t *testing.T) {
 		{"a\x00", api.ErrName},
 		{"a\n", api.ErrName},
 	} {
-		if e := rules.NameErrors()(c.name); e != c.err {
+		if e := rules.NameErrors(api.ErrExists)(c.name); e != c.err {
 			t.Errorf("the name %q: %d, want %d", c.name, e, c.err)
 		}
 	}
 }
 
 func TestNameErrorsOfMany(t *testing.T) {
-	errorOf := rules.NameErrors()
+	errorOf := rules.NameErrors(api.ErrExists)
 	for i, c := range []struct {
 		name string
 		err  api.Errno
@@ -63,7 +63,13 @@ func TestNameErrorsOfMany(t *testing.T) {
 			t.Errorf("the name %d, %q: %d, want %d", i, c.name, e, c.err)
 		}
 	}
-	if e := rules.NameErrors()("a"); e != api.OK {
+	if e := rules.NameErrors(api.ErrExists)("a"); e != api.OK {
 		t.Errorf("names are kept from one function to the next one: %d", e)
+	}
+	errorOf = rules.NameErrors(api.ErrDouble)
+	for i, err := range []api.Errno{api.OK, api.ErrDouble, api.ErrDouble} {
+		if e := errorOf("a"); e != err {
+			t.Errorf("the name %d that was one before: %d, want %d", i, e, err)
+		}
 	}
 }

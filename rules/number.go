@@ -18,3 +18,15 @@ func Lowest(num, den int) api.Frac {
 	by := Divisor(num, den)
 	return api.Frac{Num: num / by, Den: den / by}
 }
+
+// Floor is a quotient rounded down, for a divisor above 0.
+func Floor(n, by int) int {
+	q := n / by
+	if n%by < 0 {
+		q--
+	}
+	return q
+}
+
+// Ceiling is a quotient rounded up, for a divisor above 0.
+func Ceiling(n, by int) int { return -Floor(-n, by) }

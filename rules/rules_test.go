@@ -164,6 +164,28 @@ func TestDivisorAndLowest(t *testing.T) {
 	}
 }
 
+func TestFloorAndCeiling(t *testing.T) {
+	for _, c := range []struct{ n, by, floor, ceiling int }{
+		{0, 7, 0, 0},
+		{6, 7, 0, 1},
+		{7, 7, 1, 1},
+		{8, 7, 1, 2},
+		{-1, 7, -1, 0},
+		{-6, 7, -1, 0},
+		{-7, 7, -1, -1},
+		{-8, 7, -2, -1},
+		{5, 1, 5, 5},
+		{-5, 1, -5, -5},
+	} {
+		if n := rules.Floor(c.n, c.by); n != c.floor {
+			t.Errorf("Floor of %d by %d: %d, want %d", c.n, c.by, n, c.floor)
+		}
+		if n := rules.Ceiling(c.n, c.by); n != c.ceiling {
+			t.Errorf("Ceiling of %d by %d: %d, want %d", c.n, c.by, n, c.ceiling)
+		}
+	}
+}
+
 func TestWritten(t *testing.T) {
 	for _, c := range []struct {
 		numbers []int
