@@ -54,10 +54,7 @@ func readingsError(l api.CableLine, b []api.Range, r []api.CableReading) api.Err
 		return api.ErrLarge
 	}
 	_, e := rules.FirstBad(r, func(x api.CableReading) api.Errno {
-		if x.Link < 0 || x.Link >= len(l.Links) {
-			return api.ErrMissing
-		}
-		return rules.RangeError(x.X, api.MaxCablePull)
+		return rules.FirstError(rules.IndexError(x.Link, len(l.Links)), rules.RangeError(x.X, api.MaxCablePull))
 	})
 	return e
 }
@@ -67,17 +64,7 @@ func setError(r []api.CableReading, set []int) api.Errno {
 	if len(set) != 1 && len(set) != 2 {
 		return api.ErrShape
 	}
-	before := -1
-	_, e := rules.FirstBad(set, func(i int) api.Errno {
-		if i < 0 || i >= len(r) {
-			return api.ErrMissing
-		}
-		if i <= before {
-			return api.ErrOrder
-		}
-		before = i
-		return api.OK
-	})
+	_, e := rules.FirstBad(set, rules.SetErrors(len(r)))
 	return e
 }
 

@@ -26,16 +26,8 @@ func DepthIn(pressure, density api.Range) (api.Range, api.Errno) {
 
 // SquaresIn is in P5.2.
 func SquaresIn(n api.FixNet, beacon int, b api.FixBox) (api.Range, api.Errno) {
-	if e := rules.FirstError(netError(n), indexError(beacon, len(n.Beacons)), CheckBox(n, b)); e != api.OK {
+	if e := rules.FirstError(netError(n), rules.IndexError(beacon, len(n.Beacons)), CheckBox(n, b)); e != api.OK {
 		return api.Range{}, e
 	}
 	return placeOf(n.Beacons[beacon].Place).squaresTo(boxOf(b)), api.OK
-}
-
-// indexError is ErrMissing if there is no item with this index.
-func indexError(index, count int) api.Errno {
-	if index < 0 || index >= count {
-		return api.ErrMissing
-	}
-	return api.OK
 }

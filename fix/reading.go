@@ -20,7 +20,7 @@ func CheckReadings(n api.FixNet, l []api.FixReading) (int, api.Errno) {
 		}
 		return rules.FirstError(
 			kindError(r.Kind),
-			indexError(r.Index, count),
+			rules.IndexError(r.Index, count),
 			rules.LimitError(r.Value.Lo, least, api.MaxFixRange),
 			rules.LimitError(r.Value.Hi, least, api.MaxFixRange),
 			rules.OrderError(r.Value),

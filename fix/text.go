@@ -81,14 +81,14 @@ func readStep(s string) (api.FixStep, bool) {
 
 func readMove(s string) (api.FixMove, bool) {
 	word, rest, _ := strings.Cut(s, " ")
-	ticks, isTicks := readCount(word)
+	ticks, isTicks := rules.CountIn(word, digits)
 	speed, isSpeed := readBox(rest)
 	return api.FixMove{Ticks: ticks, Speed: speed.given()}, isTicks && isSpeed
 }
 
 func readVote(s string) (api.FixVote, bool) {
 	parts := strings.Split(s, ";")
-	wrong, ok := readCount(parts[0])
+	wrong, ok := rules.CountIn(parts[0], digits)
 	if !ok {
 		return api.FixVote{}, false
 	}
@@ -115,15 +115,6 @@ func readReading(s string) (api.FixReading, bool) {
 		}
 	}
 	return api.FixReading{}, false
-}
-
-// readCount reads one number without a sign.
-func readCount(s string) (int, bool) {
-	n, ok := rules.NumbersIn(s, digits, 0)
-	if !ok || len(n) != 1 {
-		return 0, false
-	}
-	return n[0], true
 }
 
 // kindWord is the word for a kind of readings.

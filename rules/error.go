@@ -1,4 +1,4 @@
-// Package rules has what the document says for all chapters: which error is the first one, lists, sizes and limits of numbers, strings that are parsed and numbers in them, minimum sets, lowest terms, and quotients rounded down and up.
+// Package rules has what the document says for all chapters: which error is the first one, lists, indexes, sizes and limits of numbers, strings that are parsed and numbers in them, minimum sets, lowest terms, and quotients rounded down and up.
 package rules
 
 import "moonpool/api"
@@ -32,6 +32,33 @@ func CheckList[T any](items []T, least, most int, errorOf func(T) api.Errno) (in
 		return 0, api.ErrLarge
 	}
 	return FirstBad(items, errorOf)
+}
+
+// IndexError is ErrMissing if none of so many items has this index.
+func IndexError(index, count int) api.Errno {
+	if index < 0 || index >= count {
+		return api.ErrMissing
+	}
+	return api.OK
+}
+
+// RisingErrors makes the function that finds the errors of numbers one after another: ErrOrder if one is not greater than the one before.
+func RisingErrors() func(n int) api.Errno {
+	isFirst, before := true, 0
+	return func(n int) api.Errno {
+		isRising := isFirst || n > before
+		isFirst, before = false, n
+		if !isRising {
+			return api.ErrOrder
+		}
+		return api.OK
+	}
+}
+
+// SetErrors makes the function that finds the errors of the indexes of a set one after another: ErrMissing if none of so many items has one, ErrOrder if it is not greater than the one before.
+func SetErrors(count int) func(index int) api.Errno {
+	risingError := RisingErrors()
+	return func(index int) api.Errno { return FirstError(IndexError(index, count), risingError(index)) }
 }
 
 // Within is whether a number is at most most in size. The least int has no size that is an int, so that none is taken.

@@ -74,6 +74,51 @@ func TestCheckList(t *testing.T) {
 	}
 }
 
+func TestIndexError(t *testing.T) {
+	for _, c := range []struct {
+		index, count int
+		err          api.Errno
+	}{
+		{0, 1, api.OK},
+		{4, 5, api.OK},
+		{5, 5, api.ErrMissing},
+		{-1, 5, api.ErrMissing},
+		{0, 0, api.ErrMissing},
+		{math.MaxInt, 5, api.ErrMissing},
+		{math.MinInt, 5, api.ErrMissing},
+	} {
+		if e := rules.IndexError(c.index, c.count); e != c.err {
+			t.Errorf("IndexError of %d of %d: %d, want %d", c.index, c.count, e, c.err)
+		}
+	}
+}
+
+func TestRisingAndSetErrors(t *testing.T) {
+	for _, c := range []struct {
+		numbers     []int
+		rising, set api.Errno // with the indexes of 5 items
+	}{
+		{nil, api.OK, api.OK},
+		{[]int{0}, api.OK, api.OK},
+		{[]int{0, 1, 4}, api.OK, api.OK},
+		{[]int{-9, -3, 7}, api.OK, api.ErrMissing},
+		{[]int{math.MinInt, math.MaxInt}, api.OK, api.ErrMissing},
+		{[]int{math.MinInt, math.MinInt}, api.ErrOrder, api.ErrMissing},
+		{[]int{0, 0}, api.ErrOrder, api.ErrOrder},
+		{[]int{0, 3, 2}, api.ErrOrder, api.ErrOrder},
+		{[]int{0, 3, -1}, api.ErrOrder, api.ErrMissing},
+		{[]int{3, 2, 5}, api.ErrOrder, api.ErrOrder},
+		{[]int{3, 5, 4}, api.ErrOrder, api.ErrMissing},
+	} {
+		if _, e := rules.FirstBad(c.numbers, rules.RisingErrors()); e != c.rising {
+			t.Errorf("RisingErrors of %v: %d, want %d", c.numbers, e, c.rising)
+		}
+		if _, e := rules.FirstBad(c.numbers, rules.SetErrors(5)); e != c.set {
+			t.Errorf("SetErrors of %v: %d, want %d", c.numbers, e, c.set)
+		}
+	}
+}
+
 func TestParsed(t *testing.T) {
 	read := func(s string) (int, bool) { return len(s), !strings.Contains(s, "x") }
 	errorOf := func(n int) api.Errno {
@@ -224,6 +269,30 @@ func TestNumbersIn(t *testing.T) {
 	}
 	if n, ok := rules.NumbersIn("1 -2", 3, 1); ok || n != nil {
 		t.Errorf("NumbersIn of an unsigned one: %v, %v, want none", n, ok)
+	}
+}
+
+func TestCountIn(t *testing.T) {
+	for _, c := range []struct {
+		text  string
+		count int
+		ok    bool
+	}{
+		{"0", 0, true},
+		{"7", 7, true},
+		{"120", 120, true},
+		{"999", 999, true},
+		{"-1", 0, false},
+		{"1 2", 0, false},
+	} {
+		if n, ok := rules.CountIn(c.text, 3); n != c.count || ok != c.ok {
+			t.Errorf("CountIn of %q: %d, %v, want %d, %v", c.text, n, ok, c.count, c.ok)
+		}
+	}
+	for _, text := range strings.Split(malformed, ",") {
+		if n, ok := rules.CountIn(text, 3); ok || n != 0 {
+			t.Errorf("CountIn of %q: %d, %v, want none", text, n, ok)
+		}
 	}
 }
 

@@ -9,6 +9,15 @@ import (
 // Set is numbers from 0 on: those of its bits that are 1.
 type Set int
 
+// SetOf is the set of numbers.
+func SetOf(numbers ...int) Set {
+	var s Set
+	for _, n := range numbers {
+		s = s.With(n)
+	}
+	return s
+}
+
 // Has is whether a number is in a set.
 func (s Set) Has(n int) bool { return s>>n&1 == 1 }
 

@@ -9,14 +9,6 @@ import (
 
 // Terms: minimum set
 
-func setOf(numbers ...int) rules.Set {
-	var s rules.Set
-	for _, n := range numbers {
-		s = s.With(n)
-	}
-	return s
-}
-
 func TestSet(t *testing.T) {
 	for _, c := range []struct{ numbers, members []int }{
 		{nil, nil},
@@ -24,7 +16,7 @@ func TestSet(t *testing.T) {
 		{[]int{5, 2, 9, 2}, []int{2, 5, 9}},
 		{[]int{62, 0}, []int{0, 62}},
 	} {
-		s := setOf(c.numbers...)
+		s := rules.SetOf(c.numbers...)
 		if m := s.Members(); !slices.Equal(m, c.members) || s.Size() != len(c.members) {
 			t.Errorf("the set of %v: %v, %d of them", c.numbers, m, s.Size())
 		}
@@ -59,7 +51,7 @@ func TestBest(t *testing.T) {
 		{"the least weight", 5, func(s rules.Set) bool { return s.Has(0) != s.Has(4) }, []int{4}, 2, true},
 		{"the smallest of one weight", 5, func(s rules.Set) bool { return weightOf(s) == 4 }, []int{0}, 4, true},
 		{"the first of one size", 5, func(s rules.Set) bool { return s.Size() == 2 && weightOf(s) == 3 }, []int{1, 4}, 3, true},
-		{"the weight before the size", 5, func(s rules.Set) bool { return s == setOf(0) || s == setOf(1, 3, 4) }, []int{1, 3, 4}, 3, true},
+		{"the weight before the size", 5, func(s rules.Set) bool { return s == rules.SetOf(0) || s == rules.SetOf(1, 3, 4) }, []int{1, 3, 4}, 3, true},
 		{"numbers below count alone", 3, func(s rules.Set) bool { return s != 0 }, []int{1}, 1, true},
 	} {
 		s, least, ok := rules.Best(c.count, func(s rules.Set) (int, bool) { return weightOf(s), c.fit(s) })
@@ -77,11 +69,11 @@ func TestMinimum(t *testing.T) {
 		ok    bool
 	}{
 		{"none", nil, nil, false},
-		{"the empty set", []rules.Set{0, setOf(0)}, nil, true},
-		{"the size before the order", []rules.Set{setOf(0, 1, 2), setOf(3, 4)}, []int{3, 4}, true},
-		{"the order of one size", []rules.Set{setOf(1, 2), setOf(0, 4), setOf(1, 3)}, []int{0, 4}, true},
-		{"the order of the second number", []rules.Set{setOf(1, 4), setOf(1, 3), setOf(2, 3)}, []int{1, 3}, true},
-		{"a number that is not below count", []rules.Set{setOf(5), setOf(0, 1)}, []int{0, 1}, true},
+		{"the empty set", []rules.Set{0, rules.SetOf(0)}, nil, true},
+		{"the size before the order", []rules.Set{rules.SetOf(0, 1, 2), rules.SetOf(3, 4)}, []int{3, 4}, true},
+		{"the order of one size", []rules.Set{rules.SetOf(1, 2), rules.SetOf(0, 4), rules.SetOf(1, 3)}, []int{0, 4}, true},
+		{"the order of the second number", []rules.Set{rules.SetOf(1, 4), rules.SetOf(1, 3), rules.SetOf(2, 3)}, []int{1, 3}, true},
+		{"a number that is not below count", []rules.Set{rules.SetOf(5), rules.SetOf(0, 1)}, []int{0, 1}, true},
 	} {
 		s, ok := rules.Minimum(5, func(s rules.Set) bool { return slices.Contains(c.fit, s) })
 		if !slices.Equal(s.Members(), c.found) || ok != c.ok {

@@ -48,6 +48,15 @@ func NumbersIn(text string, digits int, unsigned ...int) ([]int, bool) {
 	return numbers, true
 }
 
+// CountIn reads one number without a sign.
+func CountIn(word string, digits int) (int, bool) {
+	n, ok := NumbersIn(word, digits, 0)
+	if !ok || len(n) != 1 {
+		return 0, false
+	}
+	return n[0], true
+}
+
 // numberIn reads a number itself, because strconv also accepts "+", "-0" and leading zeros.
 func numberIn(word string, digits int) (int, bool) {
 	rest, minus := strings.CutPrefix(word, "-")

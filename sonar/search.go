@@ -19,17 +19,7 @@ func CheckSearch(x api.SonarSearch) (int, api.Errno) {
 	if e != api.OK {
 		return i, e
 	}
-	before := -1
-	return rules.FirstBad(x.Wanted, func(cell int) api.Errno {
-		if cell < 0 || cell >= g.cells() {
-			return api.ErrMissing
-		}
-		if cell <= before {
-			return api.ErrOrder
-		}
-		before = cell
-		return api.OK
-	})
+	return rules.FirstBad(x.Wanted, rules.SetErrors(g.cells()))
 }
 
 // CoverOf is in P4.5.

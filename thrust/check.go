@@ -12,11 +12,8 @@ func CheckThrusters(l []api.Thruster) (int, api.Errno) {
 
 // ColumnOf is in P3.1.
 func ColumnOf(l []api.Thruster, i int) ([3]int, api.Errno) {
-	if e := thrustersError(l); e != api.OK {
+	if e := rules.FirstError(thrustersError(l), rules.IndexError(i, len(l))); e != api.OK {
 		return [3]int{}, e
-	}
-	if i < 0 || i >= len(l) {
-		return [3]int{}, api.ErrMissing
 	}
 	return newThruster(l[i]).column, api.OK
 }
