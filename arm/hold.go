@@ -66,10 +66,7 @@ func contactError(c api.ArmContact) api.Errno {
 }
 
 func frictionError(f api.Frac) api.Errno {
-	if f.Den <= 0 || rules.Divisor(f.Num, f.Den) != 1 {
-		return api.ErrForm
-	}
-	return rules.FirstError(rules.LimitError(f.Num, 0, api.MaxArmFriction), rules.LimitError(f.Den, 0, api.MaxArmFriction))
+	return rules.FirstError(rules.LowestError(f), rules.LimitsError(0, api.MaxArmFriction, f.Num, f.Den))
 }
 
 // forceError is the error of the forces n and t of a contact.

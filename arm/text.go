@@ -2,7 +2,6 @@ package arm
 
 import (
 	"slices"
-	"strings"
 
 	"moonpool/api"
 	"moonpool/rules"
@@ -40,28 +39,19 @@ func ParsePose(s string) (api.ArmPose, api.Errno) {
 
 // FormatPath is in P6.8.
 func FormatPath(path []api.ArmMove) string {
-	parts := make([]string, len(path))
-	for i, m := range path {
-		parts[i] = rules.Written(m.Joint, m.By)
-	}
-	return strings.Join(parts, ";")
+	return rules.Joined(path, ";", func(m api.ArmMove) string { return rules.Written(m.Joint, m.By) })
 }
 
 // ParsePath is in P6.8.
 func ParsePath(s string) ([]api.ArmMove, api.Errno) { return rules.Parsed(s, readPath, pathError) }
 
 // readPath reads any path, which need not fit any scene.
-func readPath(s string) ([]api.ArmMove, bool) {
-	if s == "" {
-		return nil, true
+func readPath(s string) ([]api.ArmMove, bool) { return rules.ReadAny(s, ";", readMove) }
+
+func readMove(s string) (api.ArmMove, bool) {
+	n, ok := rules.NumbersIn(s, digits)
+	if !ok || len(n) != moveWords {
+		return api.ArmMove{}, false
 	}
-	var path []api.ArmMove
-	for _, part := range strings.Split(s, ";") {
-		n, ok := rules.NumbersIn(part, digits)
-		if !ok || len(n) != moveWords {
-			return nil, false
-		}
-		path = append(path, api.ArmMove{Joint: n[jointWord], By: n[byWord]})
-	}
-	return path, true
+	return api.ArmMove{Joint: n[jointWord], By: n[byWord]}, true
 }

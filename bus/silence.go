@@ -33,7 +33,7 @@ func heardError(heard []int) api.Errno {
 }
 
 func spanError(span api.Range) api.Errno {
-	return rules.FirstError(tickError(span.Lo), tickError(span.Hi), rules.OrderError(span))
+	return rules.FirstError(rules.LimitsError(0, api.MaxTick, span.Lo, span.Hi), rules.OrderError(span))
 }
 
 func tickError(tick int) api.Errno { return rules.LimitError(tick, 0, api.MaxTick) }

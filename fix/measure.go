@@ -8,10 +8,8 @@ import (
 // DepthIn is in P5.2.
 func DepthIn(pressure, density api.Range) (api.Range, api.Errno) {
 	e := rules.FirstError(
-		rules.LimitError(pressure.Lo, 0, api.MaxFixPressure),
-		rules.LimitError(pressure.Hi, 0, api.MaxFixPressure),
-		rules.LimitError(density.Lo, 1, api.MaxFixDensity),
-		rules.LimitError(density.Hi, 1, api.MaxFixDensity),
+		rules.LimitsError(0, api.MaxFixPressure, pressure.Lo, pressure.Hi),
+		rules.LimitsError(1, api.MaxFixDensity, density.Lo, density.Hi),
 		rules.OrderError(pressure),
 		rules.OrderError(density),
 	)

@@ -35,8 +35,7 @@ func netError(n api.FixNet) api.Errno {
 func worldError(world api.FixBox) api.Errno {
 	return rules.FirstError(
 		rules.SizeError(api.MaxFixPlace, world.X.Lo, world.X.Hi, world.Y.Lo, world.Y.Hi),
-		rules.LimitError(world.Z.Lo, 0, api.MaxFixPlace),
-		rules.LimitError(world.Z.Hi, 0, api.MaxFixPlace),
+		rules.LimitsError(0, api.MaxFixPlace, world.Z.Lo, world.Z.Hi),
 		boxOf(world).orderError(),
 	)
 }

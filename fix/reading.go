@@ -21,8 +21,7 @@ func CheckReadings(n api.FixNet, l []api.FixReading) (int, api.Errno) {
 		return rules.FirstError(
 			kindError(r.Kind),
 			rules.IndexError(r.Index, count),
-			rules.LimitError(r.Value.Lo, least, api.MaxFixRange),
-			rules.LimitError(r.Value.Hi, least, api.MaxFixRange),
+			rules.LimitsError(least, api.MaxFixRange, r.Value.Lo, r.Value.Hi),
 			rules.OrderError(r.Value),
 		)
 	})

@@ -1,7 +1,11 @@
-// Package rules has what the document says for all chapters: which error is the first one, lists, indexes, sizes and limits of numbers, strings that are parsed and numbers in them, minimum sets, lowest terms, and quotients rounded down and up.
+// Package rules has what the document says for all chapters: which error is the first one, lists, indexes, sizes and limits of numbers, strings that are parsed, their items and numbers in them, minimum sets, lowest terms, and quotients rounded down and up.
 package rules
 
-import "moonpool/api"
+import (
+	"slices"
+
+	"moonpool/api"
+)
 
 // FirstError is the first of errors that is not OK, or OK.
 func FirstError(errors ...api.Errno) api.Errno {
@@ -61,6 +65,21 @@ func SetErrors(count int) func(index int) api.Errno {
 	return func(index int) api.Errno { return FirstError(IndexError(index, count), risingError(index)) }
 }
 
+// DistinctErrors makes the function that finds the errors of indexes one after another: ErrMissing if none of so many items has one, ErrDouble if it was one before.
+func DistinctErrors(count int) func(index int) api.Errno {
+	var earlier []int
+	return func(index int) api.Errno {
+		if e := IndexError(index, count); e != api.OK {
+			return e
+		}
+		if slices.Contains(earlier, index) {
+			return api.ErrDouble
+		}
+		earlier = append(earlier, index)
+		return api.OK
+	}
+}
+
 // Within is whether a number is at most most in size. The least int has no size that is an int, so that none is taken.
 func Within(n, most int) bool { return -most <= n && n <= most }
 
@@ -78,6 +97,20 @@ func SizeError(most int, numbers ...int) api.Errno {
 func LimitError(n, least, most int) api.Errno {
 	if n < least || n > most {
 		return api.ErrRange
+	}
+	return api.OK
+}
+
+// LimitsError is ErrRange if any of the numbers is not from least to most.
+func LimitsError(least, most int, numbers ...int) api.Errno {
+	_, e := FirstBad(numbers, func(n int) api.Errno { return LimitError(n, least, most) })
+	return e
+}
+
+// LowestError is ErrForm if a fraction is not in lowest terms with a denominator above 0.
+func LowestError(f api.Frac) api.Errno {
+	if f.Den <= 0 || Divisor(f.Num, f.Den) != 1 {
+		return api.ErrForm
 	}
 	return api.OK
 }

@@ -93,28 +93,34 @@ func TestIndexError(t *testing.T) {
 	}
 }
 
-func TestRisingAndSetErrors(t *testing.T) {
+func TestErrorsOfMany(t *testing.T) {
 	for _, c := range []struct {
-		numbers     []int
-		rising, set api.Errno // with the indexes of 5 items
+		numbers               []int
+		rising, set, distinct api.Errno // the last two with the indexes of 5 items
 	}{
-		{nil, api.OK, api.OK},
-		{[]int{0}, api.OK, api.OK},
-		{[]int{0, 1, 4}, api.OK, api.OK},
-		{[]int{-9, -3, 7}, api.OK, api.ErrMissing},
-		{[]int{math.MinInt, math.MaxInt}, api.OK, api.ErrMissing},
-		{[]int{math.MinInt, math.MinInt}, api.ErrOrder, api.ErrMissing},
-		{[]int{0, 0}, api.ErrOrder, api.ErrOrder},
-		{[]int{0, 3, 2}, api.ErrOrder, api.ErrOrder},
-		{[]int{0, 3, -1}, api.ErrOrder, api.ErrMissing},
-		{[]int{3, 2, 5}, api.ErrOrder, api.ErrOrder},
-		{[]int{3, 5, 4}, api.ErrOrder, api.ErrMissing},
+		{nil, api.OK, api.OK, api.OK},
+		{[]int{0}, api.OK, api.OK, api.OK},
+		{[]int{0, 1, 4}, api.OK, api.OK, api.OK},
+		{[]int{-9, -3, 7}, api.OK, api.ErrMissing, api.ErrMissing},
+		{[]int{math.MinInt, math.MaxInt}, api.OK, api.ErrMissing, api.ErrMissing},
+		{[]int{math.MinInt, math.MinInt}, api.ErrOrder, api.ErrMissing, api.ErrMissing},
+		{[]int{0, 0}, api.ErrOrder, api.ErrOrder, api.ErrDouble},
+		{[]int{0, 3, 2}, api.ErrOrder, api.ErrOrder, api.OK},
+		{[]int{0, 3, 2, 0}, api.ErrOrder, api.ErrOrder, api.ErrDouble},
+		{[]int{0, 3, -1}, api.ErrOrder, api.ErrMissing, api.ErrMissing},
+		{[]int{3, 2, 5}, api.ErrOrder, api.ErrOrder, api.ErrMissing},
+		{[]int{3, 5, 4}, api.ErrOrder, api.ErrMissing, api.ErrMissing},
+		{[]int{4, 3, 2, 1, 0}, api.ErrOrder, api.ErrOrder, api.OK},
+		{[]int{1, 1, 5}, api.ErrOrder, api.ErrOrder, api.ErrDouble},
 	} {
 		if _, e := rules.FirstBad(c.numbers, rules.RisingErrors()); e != c.rising {
 			t.Errorf("RisingErrors of %v: %d, want %d", c.numbers, e, c.rising)
 		}
 		if _, e := rules.FirstBad(c.numbers, rules.SetErrors(5)); e != c.set {
 			t.Errorf("SetErrors of %v: %d, want %d", c.numbers, e, c.set)
+		}
+		if _, e := rules.FirstBad(c.numbers, rules.DistinctErrors(5)); e != c.distinct {
+			t.Errorf("DistinctErrors of %v: %d, want %d", c.numbers, e, c.distinct)
 		}
 	}
 }
@@ -161,6 +167,11 @@ func TestSizesAndLimits(t *testing.T) {
 		{"the greatest limit", rules.LimitError(3, 1, 3), api.OK},
 		{"below", rules.LimitError(0, 1, 3), api.ErrRange},
 		{"above", rules.LimitError(4, 1, 3), api.ErrRange},
+		{"no limits", rules.LimitsError(1, 3), api.OK},
+		{"limits", rules.LimitsError(1, 3, 1, 3, 2), api.OK},
+		{"one below", rules.LimitsError(1, 3, 2, 0), api.ErrRange},
+		{"one above", rules.LimitsError(1, 3, 4, 2), api.ErrRange},
+		{"one that is the least int", rules.LimitsError(1, 3, math.MinInt), api.ErrRange},
 		{"a range", rules.RangeError(api.Range{Lo: -3, Hi: 3}, 3), api.OK},
 		{"a range of one number", rules.RangeError(api.Range{Lo: 2, Hi: 2}, 3), api.OK},
 		{"Lo too small", rules.RangeError(api.Range{Lo: -4, Hi: 3}, 3), api.ErrRange},
@@ -209,6 +220,32 @@ func TestDivisorAndLowest(t *testing.T) {
 	}
 }
 
+func TestLowestError(t *testing.T) {
+	for _, c := range []struct {
+		num, den int
+		err      api.Errno
+	}{
+		{0, 1, api.OK},
+		{7, 1, api.OK},
+		{-3, 2, api.OK},
+		{math.MinInt, math.MaxInt, api.OK},
+		{math.MinInt, 1, api.OK},
+		{0, 0, api.ErrForm},
+		{1, 0, api.ErrForm},
+		{0, 2, api.ErrForm},
+		{6, 4, api.ErrForm},
+		{-6, 4, api.ErrForm},
+		{3, -2, api.ErrForm},
+		{-1, -1, api.ErrForm},
+		{math.MinInt, 2, api.ErrForm},
+		{math.MinInt, math.MinInt, api.ErrForm},
+	} {
+		if e := rules.LowestError(api.Frac{Num: c.num, Den: c.den}); e != c.err {
+			t.Errorf("LowestError of %d/%d: %d, want %d", c.num, c.den, e, c.err)
+		}
+	}
+}
+
 func TestFloorAndCeiling(t *testing.T) {
 	for _, c := range []struct{ n, by, floor, ceiling int }{
 		{0, 7, 0, 0},
@@ -243,6 +280,46 @@ func TestWritten(t *testing.T) {
 	} {
 		if s := rules.Written(c.numbers...); s != c.want {
 			t.Errorf("Written of %v: %q, want %q", c.numbers, s, c.want)
+		}
+	}
+}
+
+func TestJoined(t *testing.T) {
+	double := func(s string) string { return s + s }
+	for _, c := range []struct {
+		items []string
+		want  string
+	}{
+		{nil, ""},
+		{[]string{""}, ""},
+		{[]string{"a"}, "aa"},
+		{[]string{"a", "", "b-"}, "aa--b-b-"},
+	} {
+		if s := rules.Joined(c.items, "-", double); s != c.want {
+			t.Errorf("Joined of %q: %q, want %q", c.items, s, c.want)
+		}
+	}
+}
+
+func TestReadAnyAndSome(t *testing.T) {
+	read := func(s string) (int, bool) { return len(s), s != "x" }
+	for _, c := range []struct {
+		text      string
+		want      []int
+		any, some bool
+	}{
+		{"", nil, true, false},
+		{"a", []int{1}, true, true},
+		{"aa;;b;", []int{2, 0, 1, 0}, true, true},
+		{"x", nil, false, false},
+		{"a;x;b", nil, false, false},
+		{"a;b;x", nil, false, false},
+	} {
+		if l, ok := rules.ReadAny(c.text, ";", read); !slices.Equal(l, c.want) || ok != c.any {
+			t.Errorf("ReadAny of %q: %v, %v, want %v, %v", c.text, l, ok, c.want, c.any)
+		}
+		if l, ok := rules.ReadSome(c.text, ";", read); !slices.Equal(l, c.want) || ok != c.some {
+			t.Errorf("ReadSome of %q: %v, %v, want %v, %v", c.text, l, ok, c.want, c.some)
 		}
 	}
 }
@@ -292,6 +369,29 @@ func TestCountIn(t *testing.T) {
 	for _, text := range strings.Split(malformed, ",") {
 		if n, ok := rules.CountIn(text, 3); ok || n != 0 {
 			t.Errorf("CountIn of %q: %d, %v, want none", text, n, ok)
+		}
+	}
+}
+
+func TestCountsIn(t *testing.T) {
+	for _, c := range []struct {
+		text string
+		want []int
+		ok   bool
+	}{
+		{"", nil, true},
+		{"0", []int{0}, true},
+		{"9 10 999 0", []int{9, 10, 999, 0}, true},
+		{"-1", nil, false},
+		{"1 -1", nil, false},
+	} {
+		if l, ok := rules.CountsIn(c.text, 3); !slices.Equal(l, c.want) || ok != c.ok {
+			t.Errorf("CountsIn of %q: %v, %v, want %v, %v", c.text, l, ok, c.want, c.ok)
+		}
+	}
+	for _, text := range strings.Split(malformed, ",")[1:] {
+		if l, ok := rules.CountsIn(text, 3); ok || l != nil {
+			t.Errorf("CountsIn of %q: %v, %v, want none", text, l, ok)
 		}
 	}
 }

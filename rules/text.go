@@ -1,6 +1,7 @@
 package rules
 
 import (
+	"iter"
 	"slices"
 	"strconv"
 	"strings"
@@ -24,13 +25,49 @@ func Parsed[T any](s string, read func(s string) (T, bool), errorOf func(T) api.
 	return x, api.OK
 }
 
-// Written is numbers, separated by single blanks.
-func Written(numbers ...int) string {
-	words := make([]string, len(numbers))
-	for i, n := range numbers {
-		words[i] = strconv.Itoa(n)
+// Joined is what is written of items, with a sign between them.
+func Joined[T any](l []T, sign string, write func(item T) string) string {
+	written := make([]string, len(l))
+	for i, item := range l {
+		written[i] = write(item)
 	}
-	return strings.Join(words, " ")
+	return strings.Join(written, sign)
+}
+
+// Written is numbers, separated by single blanks.
+func Written(numbers ...int) string { return Joined(numbers, " ", strconv.Itoa) }
+
+// itemsOf yields the items of a string that have a sign between them. The empty string has none.
+func itemsOf(s, sign string) iter.Seq[string] {
+	return func(yield func(item string) bool) {
+		if s == "" {
+			return
+		}
+		for _, item := range strings.Split(s, sign) {
+			if !yield(item) {
+				return
+			}
+		}
+	}
+}
+
+// ReadAny reads any number of items that have a sign between them. The empty string has none.
+func ReadAny[T any](s, sign string, read func(item string) (T, bool)) ([]T, bool) {
+	var l []T
+	for item := range itemsOf(s, sign) {
+		x, ok := read(item)
+		if !ok {
+			return nil, false
+		}
+		l = append(l, x)
+	}
+	return l, true
+}
+
+// ReadSome reads at least one item.
+func ReadSome[T any](s, sign string, read func(item string) (T, bool)) ([]T, bool) {
+	l, ok := ReadAny(s, sign, read)
+	return l, ok && len(l) > 0
 }
 
 // NumbersIn reads the numbers of a text of words with single blanks between them, of which there is at least one.
@@ -55,6 +92,11 @@ func CountIn(word string, digits int) (int, bool) {
 		return 0, false
 	}
 	return n[0], true
+}
+
+// CountsIn reads any number of numbers without a sign, with single blanks between them. The empty text has none.
+func CountsIn(text string, digits int) ([]int, bool) {
+	return ReadAny(text, " ", func(word string) (int, bool) { return CountIn(word, digits) })
 }
 
 // numberIn reads a number itself, because strconv also accepts "+", "-0" and leading zeros.

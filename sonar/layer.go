@@ -34,8 +34,7 @@ func layersError(l []api.SonarLayer) api.Errno {
 func layerError(x api.SonarLayer) api.Errno {
 	return rules.FirstError(
 		rules.LimitError(x.Thick, 1, api.MaxSonarThick),
-		rules.LimitError(x.Speed.Lo, 1, api.MaxSonarSpeed),
-		rules.LimitError(x.Speed.Hi, 1, api.MaxSonarSpeed),
+		rules.LimitsError(1, api.MaxSonarSpeed, x.Speed.Lo, x.Speed.Hi),
 		rules.OrderError(x.Speed),
 	)
 }

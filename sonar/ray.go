@@ -13,10 +13,8 @@ type grid struct{ wide, high int }
 
 // CrossedBy is in P4.4.
 func CrossedBy(r api.SonarRay) ([]api.SonarCell, api.Errno) {
-	for _, n := range []int{r.From.X, r.From.Y, r.To.X, r.To.Y} {
-		if e := rules.LimitError(n, 0, api.MaxSonarSide-1); e != api.OK {
-			return nil, e
-		}
+	if e := rules.LimitsError(0, api.MaxSonarSide-1, r.From.X, r.From.Y, r.To.X, r.To.Y); e != api.OK {
+		return nil, e
 	}
 	return slices.Collect(crossed(r)), api.OK
 }
@@ -45,7 +43,7 @@ func crosses(r api.SonarRay, c api.SonarCell) bool {
 }
 
 func (g grid) sizeError() api.Errno {
-	return rules.FirstError(rules.LimitError(g.wide, 1, api.MaxSonarSide), rules.LimitError(g.high, 1, api.MaxSonarSide))
+	return rules.LimitsError(1, api.MaxSonarSide, g.wide, g.high)
 }
 
 func (g grid) rayError(r api.SonarRay) api.Errno {

@@ -37,11 +37,7 @@ const (
 
 // FormatDevices is in P4.6.
 func FormatDevices(l []api.SonarDevice) string {
-	parts := make([]string, len(l))
-	for i, d := range l {
-		parts[i] = rules.Written(d.Band, d.Send, d.Listen)
-	}
-	return strings.Join(parts, ";")
+	return rules.Joined(l, ";", func(d api.SonarDevice) string { return rules.Written(d.Band, d.Send, d.Listen) })
 }
 
 // ParseDevices is in P4.6.
@@ -68,16 +64,14 @@ func ParseScene(s string) (api.SonarScene, api.Errno) {
 }
 
 // readDevices reads any devices, valid or not.
-func readDevices(s string) ([]api.SonarDevice, bool) {
-	var l []api.SonarDevice
-	for _, part := range strings.Split(s, ";") {
-		n, ok := wordsIn(part, deviceWords)
-		if !ok {
-			return nil, false
-		}
-		l = append(l, api.SonarDevice{Band: n[bandWord], Send: n[sendWord], Listen: n[listenWord]})
+func readDevices(s string) ([]api.SonarDevice, bool) { return rules.ReadSome(s, ";", readDevice) }
+
+func readDevice(s string) (api.SonarDevice, bool) {
+	n, ok := wordsIn(s, deviceWords)
+	if !ok {
+		return api.SonarDevice{}, false
 	}
-	return l, true
+	return api.SonarDevice{Band: n[bandWord], Send: n[sendWord], Listen: n[listenWord]}, true
 }
 
 // readScene reads any scene, valid or not.
@@ -104,6 +98,6 @@ func readScene(s string) (api.SonarScene, bool) {
 
 // wordsIn reads so many numbers, none of which has a sign.
 func wordsIn(text string, count int) ([]int, bool) {
-	n, ok := rules.NumbersIn(text, digits)
-	return n, ok && len(n) == count && !strings.Contains(text, "-")
+	n, ok := rules.CountsIn(text, digits)
+	return n, ok && len(n) == count
 }

@@ -1,8 +1,6 @@
 package thrust
 
 import (
-	"strings"
-
 	"moonpool/api"
 	"moonpool/rules"
 )
@@ -24,11 +22,9 @@ const (
 
 // FormatThrusters is in P3.7.
 func FormatThrusters(l []api.Thruster) string {
-	parts := make([]string, len(l))
-	for i, t := range l {
-		parts[i] = rules.Written(t.Direction[0], t.Direction[1], t.Place[0], t.Place[1], t.Limit.Lo, t.Limit.Hi, t.Dead)
-	}
-	return strings.Join(parts, ";")
+	return rules.Joined(l, ";", func(t api.Thruster) string {
+		return rules.Written(t.Direction[0], t.Direction[1], t.Place[0], t.Place[1], t.Limit.Lo, t.Limit.Hi, t.Dead)
+	})
 }
 
 // ParseThrusters is in P3.7.
@@ -37,21 +33,19 @@ func ParseThrusters(s string) ([]api.Thruster, api.Errno) {
 }
 
 // readThrusters reads any thrusters, valid or not.
-func readThrusters(s string) ([]api.Thruster, bool) {
-	var l []api.Thruster
-	for _, part := range strings.Split(s, ";") {
-		n, ok := rules.NumbersIn(part, digits, deadWord)
-		if !ok || len(n) != words {
-			return nil, false
-		}
-		l = append(l, api.Thruster{
-			Direction: [2]int{n[directionXWord], n[directionYWord]},
-			Place:     [2]int{n[placeXWord], n[placeYWord]},
-			Limit:     api.Range{Lo: n[lowWord], Hi: n[highWord]},
-			Dead:      n[deadWord],
-		})
+func readThrusters(s string) ([]api.Thruster, bool) { return rules.ReadSome(s, ";", readThruster) }
+
+func readThruster(s string) (api.Thruster, bool) {
+	n, ok := rules.NumbersIn(s, digits, deadWord)
+	if !ok || len(n) != words {
+		return api.Thruster{}, false
 	}
-	return l, true
+	return api.Thruster{
+		Direction: [2]int{n[directionXWord], n[directionYWord]},
+		Place:     [2]int{n[placeXWord], n[placeYWord]},
+		Limit:     api.Range{Lo: n[lowWord], Hi: n[highWord]},
+		Dead:      n[deadWord],
+	}, true
 }
 
 // FormatSetting is in P3.7.
