@@ -71,7 +71,7 @@ func setError(r []api.CableReading, set []int) api.Errno {
 // apartFromLoad is by how much a reading is apart from the pull of its link.
 func (l line) apartFromLoad(box []api.Range, r api.CableReading) int {
 	load := api.Range{Lo: l.Load.X, Hi: l.Load.X}
-	return apart(l.carried(load, 0, r.Link+1, box), r.X)
+	return rules.Apart(l.carried(load, 0, r.Link+1, box), r.X)
 }
 
 // apartFromEachOther is by how much two readings are apart, whatever the load is.
@@ -79,8 +79,5 @@ func (l line) apartFromEachOther(box []api.Range, lower, upper api.CableReading)
 	if lower.Link > upper.Link {
 		lower, upper = upper, lower
 	}
-	return apart(l.carried(lower.X, lower.Link+1, upper.Link+1, box), upper.X)
+	return rules.Apart(l.carried(lower.X, lower.Link+1, upper.Link+1, box), upper.X)
 }
-
-// apart is the distance of two ranges.
-func apart(a, b api.Range) int { return max(0, a.Lo-b.Hi, b.Lo-a.Hi) }

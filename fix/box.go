@@ -55,13 +55,10 @@ func (b box) isEmpty() bool { return b.orderError() != api.OK }
 // common is what two boxes have in common. It may be empty.
 func (b box) common(c box) box {
 	for i := range b {
-		b[i] = common(b[i], c[i])
+		b[i] = rules.Common(b[i], c[i])
 	}
 	return b
 }
-
-// common is what two ranges have in common. Its ends are in the wrong order if that is nothing.
-func common(a, b api.Range) api.Range { return api.Range{Lo: max(a.Lo, b.Lo), Hi: min(a.Hi, b.Hi)} }
 
 // liesIn is whether all positions of a box are in another one.
 func (b box) liesIn(c box) bool { return b.common(c) == b }

@@ -73,7 +73,7 @@ func kindError(kind int) api.Errno {
 func newGauge(measure func(b box) api.Range, agreed api.Range) gauge {
 	return func(b box) int {
 		measured := measure(b)
-		both := common(measured, agreed)
+		both := rules.Common(measured, agreed)
 		switch {
 		case both == measured:
 			return api.AnswerYes

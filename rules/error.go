@@ -1,4 +1,4 @@
-// Package rules has what the document says for all chapters: which error is the first one, lists, indexes, sizes and limits of numbers, strings that are parsed, their items and numbers in them, minimum sets, lowest terms, and quotients rounded down and up.
+// Package rules has what the document says for all chapters: which error is the first one, lists, indexes, sizes and limits of numbers, ranges, names, strings that are parsed, their items and numbers in them, minimum sets, lowest terms, and quotients rounded down and up.
 package rules
 
 import (
@@ -113,17 +113,4 @@ func LowestError(f api.Frac) api.Errno {
 		return api.ErrForm
 	}
 	return api.OK
-}
-
-// OrderError is ErrOrder if the ends of a range are in the wrong order.
-func OrderError(r api.Range) api.Errno {
-	if r.Lo > r.Hi {
-		return api.ErrOrder
-	}
-	return api.OK
-}
-
-// RangeError is the error of a range whose ends are at most most in size.
-func RangeError(r api.Range, most int) api.Errno {
-	return FirstError(SizeError(most, r.Lo, r.Hi), OrderError(r))
 }

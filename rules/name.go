@@ -6,12 +6,20 @@ import (
 	"moonpool/api"
 )
 
+// NameError is ErrName if a string is not a name.
+func NameError(s string) api.Errno {
+	if !isName(s) {
+		return api.ErrName
+	}
+	return api.OK
+}
+
 // NameErrors makes the function that finds the errors of names one after another: ErrName if one is no name, and the error for those that were one before.
 func NameErrors(twice api.Errno) func(name string) api.Errno {
 	var earlier []string
 	return func(name string) api.Errno {
-		if !isName(name) {
-			return api.ErrName
+		if e := NameError(name); e != api.OK {
+			return e
 		}
 		if slices.Contains(earlier, name) {
 			return twice

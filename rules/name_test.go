@@ -9,7 +9,7 @@ import (
 
 // Terms: name
 
-func TestNameErrors(t *testing.T) {
+func TestNameError(t *testing.T) {
 	for _, c := range []struct {
 		name string
 		err  api.Errno
@@ -38,8 +38,11 @@ func TestNameErrors(t *testing.T) {
 		{"a\x00", api.ErrName},
 		{"a\n", api.ErrName},
 	} {
-		if e := rules.NameErrors(api.ErrExists)(c.name); e != c.err {
+		if e := rules.NameError(c.name); e != c.err {
 			t.Errorf("the name %q: %d, want %d", c.name, e, c.err)
+		}
+		if e := rules.NameErrors(api.ErrExists)(c.name); e != c.err {
+			t.Errorf("the first name %q: %d, want %d", c.name, e, c.err)
 		}
 	}
 }

@@ -1,6 +1,8 @@
 package winch
 
 import (
+	"slices"
+
 	"moonpool/api"
 	"moonpool/rules"
 )
@@ -59,16 +61,6 @@ func windows(l []api.Range, x api.WinchCalm) []api.Range {
 
 // stretches are the largest ranges of at least length neighbouring ticks that are such.
 func stretches(l []api.Range, length int, such func(heights api.Range) bool) []api.Range {
-	var found []api.Range
-	from := 0
-	for tick := range len(l) + 1 {
-		if tick < len(l) && such(l[tick]) {
-			continue
-		}
-		if tick-from >= length {
-			found = append(found, api.Range{Lo: from, Hi: tick - 1})
-		}
-		from = tick + 1
-	}
-	return found
+	all := rules.Stretches(api.Range{Hi: len(l) - 1}, func(tick int) bool { return such(l[tick]) })
+	return slices.DeleteFunc(all, func(r api.Range) bool { return r.Hi-r.Lo+1 < length })
 }
