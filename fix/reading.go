@@ -19,7 +19,7 @@ func CheckReadings(n api.FixNet, l []api.FixReading) (int, api.Errno) {
 			count, least = len(n.Beacons), 0
 		}
 		return rules.FirstError(
-			kindError(r.Kind),
+			rules.KindError(r.Kind, api.FixKinds),
 			rules.IndexError(r.Index, count),
 			rules.LimitsError(least, api.MaxFixRange, r.Value.Lo, r.Value.Hi),
 			rules.OrderError(r.Value),
@@ -60,13 +60,6 @@ func AnswersOf(n api.FixNet, b api.FixBox, l []api.FixReading) ([]int, api.Errno
 func readingsError(n api.FixNet, l []api.FixReading) api.Errno {
 	_, e := CheckReadings(n, l)
 	return e
-}
-
-func kindError(kind int) api.Errno {
-	if kind < 0 || kind >= api.FixKinds {
-		return api.ErrKind
-	}
-	return api.OK
 }
 
 // newGauge compares what is measured of a box with the range in which that lies for positions that agree.

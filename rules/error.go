@@ -1,4 +1,4 @@
-// Package rules has what the document says for all chapters: which error is the first one, lists, indexes, sizes and limits of numbers, ranges, names, strings that are parsed, their items and numbers in them, minimum sets, lowest terms, and quotients rounded down and up.
+// Package rules has what the document says for all chapters: which error is the first one, lists, indexes, kinds, sizes and limits of numbers, ranges, names, strings that are parsed, their items and numbers in them, minimum sets, lowest terms, and quotients rounded down and up.
 package rules
 
 import (
@@ -42,6 +42,14 @@ func CheckList[T any](items []T, least, most int, errorOf func(T) api.Errno) (in
 func IndexError(index, count int) api.Errno {
 	if index < 0 || index >= count {
 		return api.ErrMissing
+	}
+	return api.OK
+}
+
+// KindError is ErrKind if a kind is none of so many, which are the numbers from 0 on.
+func KindError(kind, count int) api.Errno {
+	if kind < 0 || kind >= count {
+		return api.ErrKind
 	}
 	return api.OK
 }

@@ -93,6 +93,25 @@ func TestIndexError(t *testing.T) {
 	}
 }
 
+func TestKindError(t *testing.T) {
+	for _, c := range []struct {
+		kind, count int
+		err         api.Errno
+	}{
+		{0, 1, api.OK},
+		{2, 3, api.OK},
+		{3, 3, api.ErrKind},
+		{-1, 3, api.ErrKind},
+		{0, 0, api.ErrKind},
+		{math.MaxInt, 3, api.ErrKind},
+		{math.MinInt, 3, api.ErrKind},
+	} {
+		if e := rules.KindError(c.kind, c.count); e != c.err {
+			t.Errorf("KindError of %d of %d: %d, want %d", c.kind, c.count, e, c.err)
+		}
+	}
+}
+
 func TestErrorsOfMany(t *testing.T) {
 	for _, c := range []struct {
 		numbers               []int

@@ -27,14 +27,11 @@ func featuresError(l []api.SurveyFeature) api.Errno {
 
 // featureError is the error of a feature alone.
 func featureError(f api.SurveyFeature) api.Errno {
-	e := rules.FirstError(
+	return rules.FirstError(
 		rules.LimitsError(0, api.MaxSurveyAt, f.At.Lo, f.At.Hi),
 		rules.LimitsError(0, api.MaxSurveySize, f.Size.Lo, f.Size.Hi),
 		rules.OrderError(f.At),
 		rules.OrderError(f.Size),
+		rules.KindError(f.Kind, api.SurveyKinds),
 	)
-	if e == api.OK && (f.Kind < 0 || f.Kind >= api.SurveyKinds) {
-		return api.ErrKind
-	}
-	return e
 }

@@ -68,11 +68,9 @@ func (x latch) stateError() api.Errno {
 }
 
 func eventError(e api.WinchEvent) api.Errno {
-	if err := rules.LimitError(e.At, 0, api.MaxTick); err != api.OK {
+	err := rules.FirstError(rules.LimitError(e.At, 0, api.MaxTick), rules.KindError(e.Kind, api.WinchKinds))
+	if err != api.OK {
 		return err
-	}
-	if e.Kind < 0 || e.Kind >= api.WinchKinds {
-		return api.ErrKind
 	}
 	if e.Kind != api.WinchLoad {
 		return rules.LimitError(e.Value, 0, 0)
